@@ -163,7 +163,7 @@ func TestExample(t *testing.T) {
 	}
 }
 
-// TestOrdinary: what an access point may ask, at a rate of each mode, with numbers worked out by hand.
+// TestOrdinary: what an access point may ask, at a rate of each mode, with numbers worked out from chapters 7 to 9.
 func TestOrdinary(t *testing.T) {
 	m := Limits{Count: 64, Bytes: 65535, Ticks: mostTicks}
 	for _, x := range []struct {
@@ -197,7 +197,7 @@ func TestEachLimitBinds(t *testing.T) {
 	lens := row(5, 101) // 105 bytes each, 108 where one is behind
 	for _, x := range []struct {
 		r    api.Rate
-		time [5]int64 // of 105, 213, 321, 429, 537 bytes, by hand
+		time [5]int64 // of 105, 213, 321, 429, 537 bytes, worked out from chapters 8 and 9
 	}{
 		{legacy(0), [5]int64{1640, 3080, 4520, 5960, 7400}},
 		{legacy(7), [5]int64{360, 520, 680, 840, 1000}},
